@@ -1,0 +1,1 @@
+"""What a keyer with two levers sends."""

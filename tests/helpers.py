@@ -1,0 +1,61 @@
+"""What several tests need: wrong values, and checks of calls."""
+
+import copy
+
+from squeezedkeyer import errors
+
+
+class Clumsy:
+    """A value that is equal to everything."""
+
+    __hash__ = None
+
+    def __eq__(self, other):
+        return True
+
+
+RULES = (2, 6, 2, 3, "held", True, "l")
+RECORD = [(0, "s", True), (4, "l", True), (9, "s", False), (9, "l", False)]
+GREAT = 10 ** 30 - 1
+
+STRANGE = [None, True, False, 1.0, 2.5, b"s", (), {}, {"s"}, [None], object(), len, Clumsy()]
+NO_INTEGERS = STRANGE + ["", "1", [1], (1,)]
+NO_LEVERS = STRANGE + [0, 1, -1, "", "S", "L", "ss", "sl", "turn", " s", "s ", ["s"], ("s",)]
+NO_RULES = STRANGE + [0, 1, "", "seventy", [], list(RULES), RULES[:6], RULES + (0,)]
+NO_LISTS = [value for value in STRANGE if not isinstance(value, list)]
+NO_LISTS += [0, 1, "", "s", tuple(RECORD), tuple(RECORD[:1])]
+
+
+def replaced(items, index, item):
+    """A copy of a list or a tuple with another item at one place."""
+    return items[:index] + type(items)([item]) + items[index + 1:]
+
+
+def touches(many):
+    """A record of short touches with so many events."""
+    return [(index // 2 * 10, "s", index % 2 == 0) for index in range(many)]
+
+
+def check_raises(case, kind, told, call, *arguments):
+    """The call raises just this error with these fields, and leaves its arguments as they were."""
+    before = repr(arguments)
+    with case.subTest(call=call.__name__, arguments=arguments):
+        with case.assertRaises(errors.KeyError) as caught:
+            call(*arguments)
+        case.assertIs(type(caught.exception), kind)
+        case.assertEqual(repr(vars(caught.exception)), repr(told))
+        case.assertEqual(repr(arguments), before)
+
+
+def check_returns(case, expected, call, *arguments):
+    """The call returns this value, each list anew, and leaves its arguments as they were."""
+    before = copy.deepcopy(arguments)
+    with case.subTest(call=call.__name__, arguments=arguments):
+        found = call(*arguments)
+        # True is equal to 1, but its text is another one.
+        case.assertEqual(repr(found), repr(expected))
+        case.assertEqual(repr(arguments), repr(before))
+        if isinstance(found, list):
+            found.append("spoilt")
+            case.assertEqual(repr(arguments), repr(before))
+            case.assertEqual(repr(call(*arguments)), repr(expected))

@@ -1,0 +1,102 @@
+"""What a program can see of LANGUAGE.md, and the interface of DOC.md."""
+
+import ast
+import builtins
+import importlib
+import inspect
+import pathlib
+import unittest
+
+FOLDER = pathlib.Path(__file__).resolve().parent.parent / "squeezedkeyer"
+FILES = sorted(FOLDER.glob("*.py"))
+
+# Python's interactive console, and so doctest, keeps its last answer as `_` there.
+BUILTINS = [name for name in dir(builtins) if name != "_"]
+
+# The document itself asks for this one.
+ASKED_FOR = [("errors.py", "KeyError")]
+
+INTERFACE = {
+    "rules": {
+        "is_rules": ["value"], "period": ["rules", "kind"], "exchanged": ["rules"], "multiplied": ["rules", "by"],
+        "plain": ["rules"], "are_alike": ["one", "other"],
+    },
+    "records": {
+        "is_record": ["value"], "is_down": ["record", "lever", "tick"], "down_stretches": ["record", "lever"],
+        "shifted": ["record", "by"], "multiplied": ["record", "by"], "exchanged": ["record"],
+        "joined": ["one", "other"], "moved": ["record", "index", "tick"],
+    },
+}
+
+NOT_ALLOWED = (
+    ast.AsyncFunctionDef, ast.AsyncFor, ast.AsyncWith, ast.Await, ast.Import, ast.Div,
+)
+
+
+def bound_names(tree):
+    """All names that a file gives a meaning, those of attributes left out."""
+    for node in ast.walk(tree):
+        if isinstance(node, (ast.FunctionDef, ast.ClassDef)):
+            yield node.name
+        elif isinstance(node, ast.arg):
+            yield node.arg
+        elif isinstance(node, ast.Name) and isinstance(node.ctx, ast.Store):
+            yield node.id
+        elif isinstance(node, ast.alias):
+            yield node.asname or node.name
+
+
+class LanguageTest(unittest.TestCase):
+    def test_the_folder_holds_nothing_but_files_of_the_package(self):
+        found = [path for path in FOLDER.iterdir() if path.name != "__pycache__"]
+        self.assertEqual(sorted(found), FILES)
+        self.assertIn(FOLDER / "__init__.py", FILES)
+
+    def test_sizes_and_signs(self):
+        for path in FILES:
+            lines = path.read_text(encoding="utf-8").split("\n")
+            with self.subTest(file=path.name):
+                self.assertLess(len(lines), 400)
+                self.assertLessEqual(max(map(len, lines)), 120)
+                self.assertEqual([line for line in lines if any(not " " <= sign <= "~" for sign in line)], [])
+
+    def test_functions_are_short(self):
+        for path in FILES:
+            for node in ast.walk(ast.parse(path.read_text())):
+                if isinstance(node, ast.FunctionDef):
+                    with self.subTest(file=path.name, function=node.name):
+                        self.assertLessEqual(node.end_lineno - node.lineno + 1, 40)
+
+    def test_imports_are_those_of_the_package(self):
+        for path in FILES:
+            for node in ast.walk(ast.parse(path.read_text())):
+                self.assertNotIsInstance(node, NOT_ALLOWED)
+                if isinstance(node, ast.ImportFrom):
+                    with self.subTest(file=path.name, line=node.lineno):
+                        self.assertEqual(node.level, 0)
+                        self.assertTrue(node.module.startswith("squeezedkeyer."))
+                        source = ast.parse((FOLDER / (node.module.split(".")[1] + ".py")).read_text())
+                        for alias in node.names:
+                            self.assertIn(alias.name, list(bound_names(source)))
+
+    def test_no_name_of_a_builtin_gets_another_meaning(self):
+        for path in FILES:
+            for name in bound_names(ast.parse(path.read_text())):
+                if (path.name, name) not in ASKED_FOR:
+                    with self.subTest(file=path.name, name=name):
+                        self.assertNotIn(name, BUILTINS)
+
+
+class InterfaceTest(unittest.TestCase):
+    def test_functions_stand_in_their_files_with_their_parameters(self):
+        for file, functions in INTERFACE.items():
+            module = importlib.import_module(f"squeezedkeyer.{file}")
+            for name, parameters in functions.items():
+                with self.subTest(file=file, name=name):
+                    found = getattr(module, name)
+                    self.assertEqual(found.__module__, module.__name__)
+                    self.assertEqual(list(inspect.signature(found).parameters), parameters)
+
+
+if __name__ == "__main__":
+    unittest.main()
