@@ -5,96 +5,96 @@ arguments anyway, so that a shown error shows its fields.
 """
 
 
-class KeyError(ValueError):
+class KeyerError(ValueError):
     """The base of all errors of the package."""
 
 
-class InvalidLever(KeyError):
+class InvalidLever(KeyerError):
     """A value is not "s" or "l"."""
 
 
-class InvalidTick(KeyError):
+class InvalidTick(KeyerError):
     """A value is no tick, or none that can stand here."""
 
 
-class InvalidNumber(KeyError):
+class InvalidNumber(KeyerError):
     """A value is no integer, or one out of its limits."""
 
 
-class InvalidGaps(KeyError):
+class InvalidGaps(KeyerError):
     """A value is no gaps for the rules."""
 
 
-class InvalidText(KeyError):
+class InvalidText(KeyerError):
     """A value is no text of the asked form."""
 
 
-class InvalidName(KeyError):
+class InvalidName(KeyerError):
     """A value is none of the names that can stand here."""
 
 
-class Impossible(KeyError):
+class Impossible(KeyerError):
     """What is asked for does not exist, or cannot happen."""
 
 
-class NothingToUndo(KeyError):
+class NothingToUndo(KeyerError):
     """There is no call that could be taken back."""
 
 
-class InvalidCommand(KeyError):
+class InvalidCommand(KeyerError):
     """A value is no command, or none that can be run now."""
 
 
-class InvalidRules(KeyError):
+class InvalidRules(KeyerError):
     """A value is no rules; index is that of the first wrong item."""
 
     def __init__(self, index):
         self.index = index
 
 
-class InvalidRecord(KeyError):
+class InvalidRecord(KeyerError):
     """A value is no record; index is that of the first wrong item."""
 
     def __init__(self, index):
         self.index = index
 
 
-class InvalidRuns(KeyError):
+class InvalidRuns(KeyerError):
     """A value is no list of runs; index is that of the first wrong item."""
 
     def __init__(self, index):
         self.index = index
 
 
-class InvalidKinds(KeyError):
+class InvalidKinds(KeyerError):
     """A value is no list of kinds; index is that of the first wrong item."""
 
     def __init__(self, index):
         self.index = index
 
 
-class InvalidCases(KeyError):
+class InvalidCases(KeyerError):
     """A value is no list of cases; index is that of the first wrong item."""
 
     def __init__(self, index):
         self.index = index
 
 
-class InvalidCode(KeyError):
+class InvalidCode(KeyerError):
     """A value is no code; letter is the first one with a wrong word."""
 
     def __init__(self, letter):
         self.letter = letter
 
 
-class TooLarge(KeyError):
+class TooLarge(KeyerError):
     """There is more of something than the limit."""
 
     def __init__(self, limit):
         self.limit = limit
 
 
-class InvalidSyntax(KeyError):
+class InvalidSyntax(KeyerError):
     """A text cannot be read from this word of this line on."""
 
     def __init__(self, line, word):

@@ -40,7 +40,7 @@ def check_raises(case, kind, told, call, *arguments):
     """The call raises just this error with these fields, and leaves its arguments as they were."""
     before = repr(arguments)
     with case.subTest(call=call.__name__, arguments=arguments):
-        with case.assertRaises(errors.KeyError) as caught:
+        with case.assertRaises(errors.KeyerError) as caught:
             call(*arguments)
         case.assertIs(type(caught.exception), kind)
         case.assertEqual(repr(vars(caught.exception)), repr(told))

@@ -57,7 +57,7 @@ def answer(line, names):
         return None
     try:
         value = eval(compiled, names)
-    except errors.KeyError as error:
+    except errors.KeyerError as error:
         told = ", ".join(f"{field}={value!r}" for field, value in vars(error).items())
         return f"raises {type(error).__name__}" + (f"({told})" if told else "")
     return None if value is None else repr(value)

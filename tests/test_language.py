@@ -13,9 +13,6 @@ FILES = sorted(FOLDER.glob("*.py"))
 # Python's interactive console, and so doctest, keeps its last answer as `_` there.
 BUILTINS = [name for name in dir(builtins) if name != "_"]
 
-# The document itself asks for this one.
-ASKED_FOR = [("errors.py", "KeyError")]
-
 INTERFACE = {
     "rules": {
         "is_rules": ["value"], "period": ["rules", "kind"], "exchanged": ["rules"], "multiplied": ["rules", "by"],
@@ -82,9 +79,8 @@ class LanguageTest(unittest.TestCase):
     def test_no_name_of_a_builtin_gets_another_meaning(self):
         for path in FILES:
             for name in bound_names(ast.parse(path.read_text())):
-                if (path.name, name) not in ASKED_FOR:
-                    with self.subTest(file=path.name, name=name):
-                        self.assertNotIn(name, BUILTINS)
+                with self.subTest(file=path.name, name=name):
+                    self.assertNotIn(name, BUILTINS)
 
 
 class InterfaceTest(unittest.TestCase):
