@@ -36,6 +36,34 @@ def touches(many):
     return [(index // 2 * 10, "s", index % 2 == 0) for index in range(many)]
 
 
+WRONG_RULES = [(value, errors.InvalidRules, {"index": None}) for value in NO_RULES]
+WRONG_RULES += [(replaced(RULES, index, None), errors.InvalidRules, {"index": index}) for index in range(7)]
+WRONG_RULES += [(replaced(RULES, 0, 0), errors.InvalidRules, {"index": 0})]
+WRONG_RECORDS = [(value, errors.InvalidRecord, {"index": None}) for value in NO_LISTS + [touches(201), touches(202)]]
+WRONG_RECORDS += [
+    ([None], errors.InvalidRecord, {"index": 0}),
+    ([(0, "s", False)], errors.InvalidRecord, {"index": 0}),
+    ([(0, "s", True), (True, "s", False)], errors.InvalidRecord, {"index": 1}),
+    ([(0, "s", True), (-1, "s", False)], errors.InvalidRecord, {"index": 1}),
+    (RECORD[:3], errors.InvalidRecord, {"index": 3}),
+    (touches(199), errors.InvalidRecord, {"index": 199}),
+]
+WRONG_TICKS = [(value, errors.InvalidTick, {}) for value in NO_INTEGERS]
+
+
+def check_errors(case, call, *columns):
+    """Each wrong argument raises its error, whatever comes behind it.
+
+    A column is the right value of an argument and its wrong ones, each with
+    the error and its fields.
+    """
+    for place, (_, wrong) in enumerate(columns):
+        ahead = [right for right, _ in columns[:place]]
+        for value, kind, told in wrong:
+            check_raises(case, kind, told, call, *ahead, value, *[right for right, _ in columns[place + 1:]])
+            check_raises(case, kind, told, call, *ahead, value, *[rest[-1][0] for _, rest in columns[place + 1:]])
+
+
 def check_raises(case, kind, told, call, *arguments):
     """The call raises just this error with these fields, and leaves its arguments as they were."""
     before = repr(arguments)

@@ -10,6 +10,23 @@ from squeezedkeyer import errors
 README = pathlib.Path(__file__).resolve().parent.parent / "README.md"
 
 EXAMPLES = {
+    6: ['''
+>>> from squeezedkeyer.marks import idle_from, runs_of
+>>> rules = (2, 6, 2, 0, "none", False, "turn")
+>>> held = [(0, "s", True), (9, "s", False)]
+>>> squeezed = [(0, "s", True), (1, "l", True), (20, "s", False), (20, "l", False)]
+>>> [runs_of(rules, held), idle_from(rules, held), runs_of(rules, squeezed), idle_from(rules, squeezed)]
+[[(0, 's', 3)], 12, [(0, 'sl', 2)], 24]
+''', '''
+>>> from squeezedkeyer.marks import runs_of
+>>> squeezed = [(0, "s", True), (1, "l", True), (20, "s", False), (20, "l", False)]
+>>> runs_of((2, 6, 2, 0, "held", False, "turn"), squeezed)
+[(0, 'sl', 2), (24, 's', 1)]
+>>> touched = [(0, "s", True), (1, "s", False), (2, "l", True), (3, "l", False)]
+>>> ways = [(0, "none"), (0, "press"), (3, "press"), (3, "held")]
+>>> [runs_of((2, 6, 2, deaf, remember, False, "turn"), touched) for deaf, remember in ways]
+[[(0, 's', 1)], [(0, 's', 1), (4, 'l', 1)], [(0, 's', 1)], [(0, 's', 1), (4, 'l', 1)]]
+'''],
     10: ['''
 >>> from squeezedkeyer.rules import are_alike, exchanged, multiplied, period, plain
 >>> rules = (2, 6, 2, 9, "held", True, "l")
@@ -36,6 +53,66 @@ EXAMPLES = {
 >>> from squeezedkeyer.records import joined
 >>> joined([(0, "s", True), (4, "s", False)], [(3, "l", True), (9, "l", False)])
 raises InvalidTick
+'''],
+    14: ['''
+>>> from squeezedkeyer.marks import count_begun, count_marks, kinds_of, mark_at, nth_mark
+>>> rules, held = (2, 6, 2, 0, "none", False, "turn"), [(0, "s", True), (9, "s", False)]
+>>> [kinds_of(rules, held), count_marks(rules, held), nth_mark(rules, held, 2), mark_at(rules, held, 5)]
+[[('s', 3)], 3, (8, 10, 's'), (4, 6, 's')]
+>>> [mark_at(rules, held, 6), count_begun(rules, held, 7), count_begun(rules, held, 8)]
+[None, 2, 3]
+>>> count_marks(rules, [(0, "s", True), (10 ** 29, "s", False)])
+25000000000000000000000000001
+'''],
+    15: ['''
+>>> from squeezedkeyer.steps import count_steps, count_word, steps
+>>> rules = (2, 6, 2, 0, "none", False, "turn")
+>>> steps(rules, [(0, "s", True), (5, "s", False)])
+[(0, 'press s'), (0, 'begin s'), (4, 'begin s'), (5, 'release s'), (8, 'idle')]
+>>> steps((2, 6, 2, 3, "held", False, "turn"), [(0, "s", True), (1, "s", False), (2, "l", True), (3, "l", False)])
+[(0, 'press s'), (0, 'begin s'), (1, 'release s'), (2, 'press l'), (3, 'hear'), (3, 'remember l'), (3, 'release l'), (4, 'begin l'), (7, 'hear'), (12, 'idle')]
+>>> long = [(0, "s", True), (10 ** 29, "s", False)]
+>>> [count_steps(rules, long), count_word(rules, long, "begin s"), count_word(rules, long, "hear")]
+[25000000000000000000000000004, 25000000000000000000000000001, 0]
+'''],
+    18: ['''
+>>> from squeezedkeyer.live import Keyer
+>>> keyer = Keyer((2, 6, 2, 0, "press", False, "turn"))
+>>> [keyer.press("s", 0), keyer.release("s", 1), keyer.press("l", 2)]
+[None, None, None]
+>>> [keyer.runs, keyer.down, keyer.remembered, keyer.next_decision, keyer.would_be()]
+[[(0, 's', 1)], ['l'], ['l'], 4, [(0, 's', 1), (4, 'l', 1)]]
+>>> [keyer.wait(12), keyer.runs, keyer.remembered, keyer.is_idle]
+[None, [(0, 's', 1), (4, 'l', 2)], [], False]
+>>> [keyer.release("l", 13), keyer.wait(20), keyer.is_idle, keyer.undo(), keyer.tick, keyer.is_idle]
+[None, None, True, None, 13, False]
+>>> keyer.log
+[('press', 's', 0), ('release', 's', 1), ('press', 'l', 2), ('wait', 12), ('release', 'l', 13)]
+>>> other = keyer.fork()
+>>> [other == keyer, other.press("s", 13), other == keyer, other.down, keyer.down]
+[True, None, False, ['s'], []]
+''', '''
+>>> from squeezedkeyer.live import Keyer
+>>> Keyer((2, 6, 2, 0, "none", False, "turn")).release("s", 5)
+raises Impossible
+'''],
+    19: ['''
+>>> from squeezedkeyer.letters import is_code, read, read_runs
+>>> rules, code = (2, 6, 2, 0, "none", False, "turn"), {"e": "s", "t": "l", "a": "sl", "n": "ls"}
+>>> [read(rules, code, (6, 14), [(0, "s", True), (1, "s", False), (tick, "l", True), (tick + 2, "l", False)]) for tick in (3, 7, 8, 15, 16)]
+['a', 'a', 'et', 'et', 'e t']
+>>> [read_runs(rules, code, (6, 14), [(0, "sl", 1), (18, "s", 1)]), read_runs(rules, code, (6, 14), [(0, "s", 10 ** 20)])]
+['ae', '?']
+>>> [is_code(code), is_code({}), is_code({"e": "s", "i": "s"}), read(rules, code, (6, 14), [])]
+[True, False, False, '']
+'''],
+    20: ['''
+>>> from squeezedkeyer.letters import broken, joined_letter, next_letters
+>>> code = {"e": "s", "t": "l", "a": "sl", "n": "ls", "i": "ss"}
+>>> [broken(code, "a"), broken(code, "i"), broken(code, "e"), joined_letter(code, "te"), joined_letter(code, "tt")]
+[['et'], ['ee'], [], 'n', None]
+>>> [next_letters(code, "s"), next_letters(code, "ll"), next_letters(code, "")]
+[['a', 'e', 'i'], [], ['a', 'e', 'i', 'n', 't']]
 '''],
 }
 
@@ -74,7 +151,7 @@ class ExamplesTest(unittest.TestCase):
 
     def test_lines_that_show_something_are_found(self):
         found = [shown for examples in EXAMPLES.values() for example in examples for _, shown in pairs(example)]
-        self.assertEqual(len([shown for shown in found if shown is not None]), 7)
+        self.assertEqual(len([shown for shown in found if shown is not None]), 28)
         for shown in found:
             if shown is not None and not shown.startswith("raises "):
                 ast.literal_eval(shown)

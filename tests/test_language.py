@@ -23,7 +23,34 @@ INTERFACE = {
         "shifted": ["record", "by"], "multiplied": ["record", "by"], "exchanged": ["record"],
         "joined": ["one", "other"], "moved": ["record", "index", "tick"],
     },
+    "marks": {
+        "runs_of": ["rules", "record"], "kinds_of": ["rules", "record"], "count_marks": ["rules", "record"],
+        "idle_from": ["rules", "record"], "nth_mark": ["rules", "record", "index"],
+        "mark_at": ["rules", "record", "tick"], "count_begun": ["rules", "record", "tick"],
+    },
+    "steps": {
+        "steps": ["rules", "record"], "count_steps": ["rules", "record"], "count_word": ["rules", "record", "word"],
+    },
+    "live": {"Keyer": ["rules"]},
+    "letters": {
+        "is_code": ["value"], "read_runs": ["rules", "code", "gaps", "runs"],
+        "read": ["rules", "code", "gaps", "record"], "broken": ["code", "letter"],
+        "joined_letter": ["code", "text"], "next_letters": ["code", "word"],
+    },
 }
+
+CLASSES = {
+    "live": {
+        "Keyer": {
+            "press": ["self", "lever", "tick"], "release": ["self", "lever", "tick"], "wait": ["self", "tick"],
+            "undo": ["self"], "would_be": ["self"], "fork": ["self"], "__eq__": ["self", "other"],
+            "tick": None, "runs": None, "is_idle": None, "down": None, "remembered": None, "next_decision": None,
+            "log": None,
+        },
+    },
+}
+
+FROM_THE_LIBRARY = [("collections", ["deque"])]
 
 NOT_ALLOWED = (
     ast.AsyncFunctionDef, ast.AsyncFor, ast.AsyncWith, ast.Await, ast.Import, ast.Div,
@@ -71,6 +98,8 @@ class LanguageTest(unittest.TestCase):
                 if isinstance(node, ast.ImportFrom):
                     with self.subTest(file=path.name, line=node.lineno):
                         self.assertEqual(node.level, 0)
+                        if (node.module, [alias.name for alias in node.names]) in FROM_THE_LIBRARY:
+                            continue
                         self.assertTrue(node.module.startswith("squeezedkeyer."))
                         source = ast.parse((FOLDER / (node.module.split(".")[1] + ".py")).read_text())
                         for alias in node.names:
@@ -92,6 +121,18 @@ class InterfaceTest(unittest.TestCase):
                     found = getattr(module, name)
                     self.assertEqual(found.__module__, module.__name__)
                     self.assertEqual(list(inspect.signature(found).parameters), parameters)
+
+    def test_methods_and_properties_stand_in_their_classes(self):
+        for file, classes in CLASSES.items():
+            module = importlib.import_module(f"squeezedkeyer.{file}")
+            for name, members in classes.items():
+                for member, parameters in members.items():
+                    with self.subTest(file=file, name=name, member=member):
+                        found = vars(getattr(module, name))[member]
+                        if parameters is None:
+                            self.assertIsInstance(found, property)
+                        else:
+                            self.assertEqual(list(inspect.signature(found).parameters), parameters)
 
 
 if __name__ == "__main__":
