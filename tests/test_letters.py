@@ -270,6 +270,10 @@ class NearLettersTest(LettersTest):
                                ("h" + "e", "5"), ("e" * 4000, None), ("0" * 4000, None), ("0", "0")]:
             self.returns(expected, joined_letter, CODE, text)
         self.returns(None, joined_letter, {"e": "s"}, "")
+        for code in (CODE, FULL):
+            self.returns(None, joined_letter, code, "".join(code))
+            for letter in code:
+                self.returns(letter, joined_letter, code, letter)
 
     def test_texts_of_two_letters_against_broken(self):
         for one, other in itertools.product(CODE, repeat=2):
