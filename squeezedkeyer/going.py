@@ -1,6 +1,6 @@
 """How a keyer goes: what the clock does, and what each event brings."""
 
-from squeezedkeyer.checks import LEVERS, other_lever
+from squeezedkeyer.decisions import hearing, keeps_presses, kept_by_hearing, next_kind, toggled, with_lever
 from squeezedkeyer.records import check_record
 from squeezedkeyer.rules import check_rules
 
@@ -14,18 +14,17 @@ class Going:
     """
 
     def __init__(self, rules):
-        s_length, l_length, pause, deaf, remember, again, both = rules
+        s_length, l_length, pause = rules[:3]
+        self.rules = rules
         self.periods = {"s": s_length + pause, "l": l_length + pause}
-        self.deaf = deaf
-        self.remember = remember
-        self.again = again
-        self.both = both
-        self.held = {"s": False, "l": False}
+        self.hearings = {"s": hearing(rules, "s"), "l": hearing(rules, "l")}
+        # The levers that are down, and those that the present mark remembers.
+        self.held = ""
+        self.kept = ""
         # The present mark: its kind is empty while the keyer is idle.
         self.kind = ""
         self.begun = 0
         self.listens = False
-        self.kept = {"s": False, "l": False}
         # Where the marks stand that have begun since the last event.
         self.turns = {}
         self.rows = []
@@ -46,14 +45,14 @@ class Going:
 
     def happen(self, tick, lever, is_press):
         """Let an event happen; the clock has been at its tick."""
-        self.held[lever] = is_press
+        self.held = toggled(self.held, lever)
         if not is_press:
             self.tell(tick, "release " + lever)
             return
         self.tell(tick, "press " + lever)
         if self.kind == "":
             self.begin(lever, tick)
-        elif self.listens and self.keeps_presses(lever):
+        elif self.listens and keeps_presses(self.rules, self.kind, lever):
             self.keep(lever, tick)
 
     def tell(self, tick, word):
@@ -67,29 +66,17 @@ class Going:
     def clock_at(self):
         """The next tick at which the clock does something."""
         if self.awaits_hearing():
-            return self.begun + self.deaf
+            return self.begun + self.hearings[self.kind]
         return self.decision_at()
 
     def awaits_hearing(self):
         """Whether the hearing of the present mark is still to come."""
-        return self.has_hearing() and not self.listens
-
-    def has_hearing(self):
-        """Whether the present mark has a hearing."""
-        if self.remember == "none" and not self.again:
-            return False
-        return self.deaf < self.periods[self.kind]
-
-    def keeps_presses(self, lever):
-        """Whether the present mark remembers a lever that is pressed."""
-        if lever == self.kind:
-            return self.again
-        return self.remember != "none"
+        return self.hearings[self.kind] is not None and not self.listens
 
     def keep(self, lever, tick):
         """Remember a lever, unless it is remembered already."""
-        if not self.kept[lever]:
-            self.kept[lever] = True
+        if lever not in self.kept:
+            self.kept = with_lever(self.kept, lever)
             self.tell(tick, "remember " + lever)
 
     def begin(self, kind, tick):
@@ -98,54 +85,32 @@ class Going:
         self.kind = kind
         self.begun = tick
         self.listens = False
-        self.kept = {"s": False, "l": False}
-        if self.deaf == 0 and self.has_hearing():
+        self.kept = ""
+        if self.hearings[kind] == 0:
             self.listen(tick)
 
     def hear(self):
         """Do the hearing of the present mark at the clock."""
-        tick = self.begun + self.deaf
+        tick = self.clock_at()
         self.tell(tick, "hear")
         self.listen(tick)
 
     def listen(self, tick):
         """Remember levers from now on, and the other one if it is down now."""
         self.listens = True
-        other = other_lever(self.kind)
-        if self.remember == "held" and self.held[other]:
-            self.keep(other, tick)
+        for lever in kept_by_hearing(self.rules, self.kind, self.held):
+            self.keep(lever, tick)
 
     def decide(self, last):
         """Do the decision of the present mark; no event comes until the last tick."""
         tick = self.decision_at()
-        kind = self.next_kind()
+        kind = next_kind(self.rules, self.kind, self.held, self.kept)
         if kind != "":
             self.begin(kind, self.leap(kind, tick, last))
             return
         # Nothing is remembered here, else a mark would begin.
         self.tell(tick, "idle")
         self.kind = ""
-
-    def next_kind(self):
-        """The kind of the mark that begins at the decision, or none: empty."""
-        kind = self.kind
-        other = other_lever(kind)
-        if self.kept[other]:
-            return other
-        if self.held["s"] and self.held["l"]:
-            return self.kind_of_both()
-        for lever in LEVERS:
-            if self.held[lever]:
-                return lever
-        return kind if self.kept[kind] else ""
-
-    def kind_of_both(self):
-        """The kind of the mark that begins if both levers are down."""
-        if self.both == "turn":
-            return other_lever(self.kind)
-        if self.both == "stay":
-            return self.kind
-        return self.both
 
     def leap(self, kind, tick, last):
         """The tick at which this mark begins, when all turns ahead of it are told at once.

@@ -21,7 +21,7 @@ class Keyer:
         """Press a lever at a tick."""
         check_lever(lever)
         self._check_tick(tick)
-        if self._going.held[lever]:
+        if lever in self._going.held:
             raise Impossible("this lever is down already")
         self._add(("press", lever, tick))
 
@@ -29,7 +29,7 @@ class Keyer:
         """Release a lever at a tick."""
         check_lever(lever)
         self._check_tick(tick)
-        if not self._going.held[lever]:
+        if lever not in self._going.held:
             raise Impossible("this lever is not down")
         self._add(("release", lever, tick))
 
@@ -90,12 +90,12 @@ class Keyer:
     @property
     def down(self):
         """The levers that are down, ascending."""
-        return [lever for lever in ("l", "s") if self._going.held[lever]]
+        return [lever for lever in ("l", "s") if lever in self._going.held]
 
     @property
     def remembered(self):
         """The levers that the present mark remembers, ascending."""
-        return [lever for lever in ("l", "s") if self._going.kept[lever]]
+        return [lever for lever in ("l", "s") if lever in self._going.kept]
 
     @property
     def next_decision(self):

@@ -3,7 +3,7 @@
 from collections import deque
 
 from squeezedkeyer.checks import is_one_of, is_whole, is_whole_from, other_lever
-from squeezedkeyer.errors import InvalidRuns
+from squeezedkeyer.errors import InvalidKinds, InvalidRuns
 
 WORDS = ("s", "l", "sl", "ls")
 MOST_RUNS = 100
@@ -29,7 +29,21 @@ def is_run(value):
     if not isinstance(value, tuple) or len(value) != 3:
         return False
     begin, word, times = value
-    return is_whole(begin) and is_one_of(word, WORDS) and is_whole_from(times, 1)
+    return is_whole(begin) and is_turns(word, times)
+
+
+def is_turns(word, times):
+    """Whether two values are a word of marks and how many times it is sent."""
+    return is_one_of(word, WORDS) and is_whole_from(times, 1)
+
+
+def check_kinds(value):
+    """Raise InvalidKinds unless a value is kinds."""
+    if not isinstance(value, list) or not 1 <= len(value) <= MOST_RUNS:
+        raise InvalidKinds(None)
+    for index, item in enumerate(value):
+        if not isinstance(item, tuple) or len(item) != 2 or not is_turns(*item):
+            raise InvalidKinds(index)
 
 
 def spans(rules):

@@ -48,6 +48,19 @@ WRONG_RECORDS += [
     (RECORD[:3], errors.InvalidRecord, {"index": 3}),
     (touches(199), errors.InvalidRecord, {"index": 199}),
 ]
+NO_KINDS = [
+    None, True, 0, "", "s", {}, (), (("s", 1),), [], [("s", 1)] * 101, Clumsy(),
+]
+NO_PAIRS = [
+    None, "s1", ["s", 1], ("s",), ("s", 1, 1), (1, "s"), ("", 1), ("ss", 1), ("sls", 1), ("S", 1), (b"s", 1), ("x", 1),
+    ("s", 0), ("s", -1), ("s", True), ("s", 1.0), ("s", "1"), ("s", None), (None, 1), (["s"], 1), (0, "s", 1), Clumsy(),
+    ("s", Clumsy()), (Clumsy(), 1),
+]
+WRONG_KINDS = [(value, errors.InvalidKinds, {"index": None}) for value in NO_KINDS]
+WRONG_KINDS += [([item], errors.InvalidKinds, {"index": 0}) for item in NO_PAIRS]
+WRONG_KINDS += [([("sl", 2)] * 99 + [item], errors.InvalidKinds, {"index": 99}) for item in NO_PAIRS]
+WRONG_KINDS += [([("s", 1), ("l", 0), None], errors.InvalidKinds, {"index": 1})]
+WRONG_COUNTS = [(value, errors.InvalidNumber, {}) for value in [*NO_INTEGERS, -1, -GREAT]]
 WRONG_TICKS = [(value, errors.InvalidTick, {}) for value in NO_INTEGERS]
 
 

@@ -180,3 +180,106 @@ def small_cases(each, chance, lengths=None):
         for _ in range(each):
             record = some_record(rules, chance.randint(1, 9), chance)
             yield rules, record, plain_keyer(rules, record)
+
+
+def plain_words(rules, record):
+    return [word for _, word in plain_keyer(rules, record).steps]
+
+
+def by_ticks(events):
+    """The events sorted by their ticks, those of one tick in their old sequence."""
+    return sorted(events, key=lambda event: event[0])
+
+
+def is_plain_record(events):
+    """Whether sorted events press and release each lever in turn."""
+    down = set()
+    for _, lever, is_press in events:
+        if is_press == (lever in down):
+            return False
+        down ^= {lever}
+    return not down
+
+
+def keeps_words(rules, words, events):
+    """Whether events, each with a tick of its own, are a record with these words when they are sorted."""
+    events = by_ticks(events)
+    return is_plain_record(events) and plain_words(rules, events) == words
+
+
+def all_moved(record, by):
+    """All lists of the same events, each with a tick that is at most so much off."""
+    for moves in itertools.product(range(-by, by + 1), repeat=len(record)):
+        yield [(tick + move, lever, is_press) for move, (tick, lever, is_press) in zip(moves, record)]
+
+
+def some_moved(record, by, chance):
+    """Such a list, with many events that are off as much as can be."""
+    return [(tick + chance.choice([-by, by, chance.randint(-by, by)]), lever, is_press)
+            for tick, lever, is_press in record]
+
+
+def all_records(many, last):
+    """All records of so many events, the first one at the tick 0, none behind the last tick."""
+    def longer(record, down):
+        if len(record) == many:
+            if not down:
+                yield list(record)
+            return
+        if len(down) > many - len(record):
+            return
+        for tick in range(record[-1][0], last + 1) if record else [0]:
+            for lever in "sl":
+                yield from longer([*record, (tick, lever, lever not in down)], down ^ {lever})
+
+    yield from longer([], frozenset())
+
+
+def copy_of(keyer):
+    other = PlainKeyer.__new__(PlainKeyer)
+    vars(other).update(vars(keyer))
+    other.down, other.remembered = set(keyer.down), set(keyer.remembered)
+    other.marks, other.steps = list(keyer.marks), []
+    return other
+
+
+def records_with(rules, marks, many):
+    """All records of so many events that send just these marks."""
+    found = []
+
+    def is_right(keyer):
+        return keyer.marks == marks[:len(keyer.marks)]
+
+    def go_on(keyer, record):
+        if len(record) == many:
+            if not keyer.down:
+                keyer = copy_of(keyer)
+                keyer.finish()
+                found.extend([record] if keyer.marks == marks else [])
+            return
+        while len(keyer.down) <= many - len(record):
+            for lever in "sl":
+                other = copy_of(keyer)
+                other.event(lever, lever not in keyer.down)
+                if is_right(other):
+                    go_on(other, [*record, (keyer.now, lever, lever not in keyer.down)])
+            # Each mark begins at its tick at the latest.
+            sent = len(keyer.marks)
+            if keyer.now >= marks[-1][1] + rules[2] or (sent < len(marks) and marks[sent][0] <= keyer.now):
+                return
+            keyer = copy_of(keyer)
+            keyer.clock(keyer.now + 1)
+            if not is_right(keyer):
+                return
+
+    keyer = PlainKeyer(rules)
+    keyer.go_to(marks[0][0])
+    go_on(keyer, [])
+    return found
+
+
+def some_rules(chance, most):
+    """Any rules with lengths up to the most, deaf near to the periods or anywhere."""
+    s, l, pause = chance.randint(1, most), chance.randint(1, most), chance.randint(1, max(1, most // 2))
+    deaf = chance.choice([0, chance.randint(0, s + pause), chance.randint(0, l + pause)])
+    return (s, l, pause, deaf, chance.choice(REMEMBER), chance.choice([False, True]), chance.choice(BOTH))

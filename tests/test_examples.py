@@ -114,6 +114,62 @@ raises Impossible
 >>> [next_letters(code, "s"), next_letters(code, "ll"), next_letters(code, "")]
 [['a', 'e', 'i'], [], ['a', 'e', 'i', 'n', 't']]
 '''],
+    21: ['''
+>>> from squeezedkeyer.sending import fewest_events, greatest_slack, trade
+>>> rules = (20, 60, 20, 0, "none", False, "turn")
+>>> [fewest_events(rules, [("sl", 2)], 9), fewest_events(rules, [("sl", 2)], 10), greatest_slack(rules, [("sl", 2)], 4)]
+[4, None, 9]
+>>> [trade(rules, [("sl", 2)]), greatest_slack(rules, [("sl", 2)], 3), fewest_events(rules, [("s", 10 ** 29)], 9)]
+[[(4, 9)], None, 2]
+'''],
+    22: ['''
+>>> from squeezedkeyer.sending import fewest_for_text
+>>> rules, code = (20, 60, 20, 0, "none", False, "turn"), {"e": "s", "t": "l", "a": "sl"}
+>>> [fewest_for_text(rules, code, (60, 140), "at", slack) for slack in (0, 9, 10)]
+[6, 6, None]
+'''],
+    24: ['''
+>>> from squeezedkeyer.steady import shows_upset, slack, steadier
+>>> rules, record = (8, 24, 8, 0, "none", False, "turn"), [(0, "s", True), (12, "s", False)]
+>>> [slack(rules, record), slack(rules, [(0, "s", True), (6, "s", False)]), slack(rules, steadier(rules, record)), slack(rules, [])]
+[1, 3, 3, None]
+>>> values = [[(-2, "s", True), (14, "s", False)], [(-1, "s", True), (13, "s", False)], [(-3, "s", True), (14, "s", False)]]
+>>> [shows_upset(rules, record, value) for value in values]
+[True, False, False]
+>>> [slack(rules, [(0, "s", True), (1, "l", True), (20, "s", False), (20, "l", False)]), shows_upset(rules, [], [])]
+[0, False]
+'''],
+    25: ['''
+>>> from squeezedkeyer.parting import fewest_parting, parting_record, shows_parting
+>>> one, other = (2, 6, 2, 0, "none", False, "turn"), (2, 6, 2, 0, "press", False, "turn")
+>>> touch = [(0, "s", True), (1, "s", False), (2, "l", True), (3, "l", False)]
+>>> [fewest_parting(one, other), shows_parting(one, other, touch), shows_parting(one, other, touch[:2]), parting_record(one, one)]
+[4, True, False, None]
+>>> [fewest_parting(one, (2, 6, 3, 0, "none", False, "turn")), fewest_parting(one, (3, 6, 2, 0, "none", False, "turn"))]
+[2, 2]
+'''],
+    26: ['''
+>>> from squeezedkeyer.heard import fewest_for_runs, is_possible, record_for
+>>> rules = (8, 24, 8, 0, "none", False, "turn")
+>>> [fewest_for_runs(rules, [(0, "s", 10 ** 29)], slack) for slack in (0, 3, 4)]
+[2, 2, None]
+>>> [is_possible(rules, [(0, "s", 1), (18, "s", 1)], slack) for slack in (0, 1, 2)]
+[True, True, False]
+>>> [len(record_for(rules, [(0, "sl", 3)], 1))] + [fewest_for_runs(rules, [(0, "sl", 3)], slack) for slack in (3, 4)]
+[4, 4, None]
+'''],
+    27: ['''
+>>> from squeezedkeyer.heard import fewest_down_at
+>>> rules = (2, 6, 2, 0, "none", False, "turn")
+>>> [fewest_down_at(rules, [(0, "s", 2)], 0, "s", tick) for tick in (-1, 0, 3, 5, 6, 7, 8)]
+[False, True, True, None, None, False, False]
+'''],
+    28: ['''
+>>> from squeezedkeyer.heard import rules_for
+>>> found = rules_for(2, 6, 2, [(0, "s", 1), (4, "l", 1)], 0, 2)
+>>> [found, ("none", False, "turn", 0, 0) in rules_for(2, 6, 2, [(0, "s", 1), (4, "l", 1)], 0, 4)]
+[[], True]
+'''],
 }
 
 
@@ -151,7 +207,7 @@ class ExamplesTest(unittest.TestCase):
 
     def test_lines_that_show_something_are_found(self):
         found = [shown for examples in EXAMPLES.values() for example in examples for _, shown in pairs(example)]
-        self.assertEqual(len([shown for shown in found if shown is not None]), 28)
+        self.assertEqual(len([shown for shown in found if shown is not None]), 41)
         for shown in found:
             if shown is not None and not shown.startswith("raises "):
                 ast.literal_eval(shown)

@@ -37,6 +37,25 @@ INTERFACE = {
         "read": ["rules", "code", "gaps", "record"], "broken": ["code", "letter"],
         "joined_letter": ["code", "text"], "next_letters": ["code", "word"],
     },
+    "sending": {
+        "fewest_events": ["rules", "kinds", "slack"], "greatest_slack": ["rules", "kinds", "events"],
+        "trade": ["rules", "kinds"], "send": ["rules", "kinds", "slack"],
+        "fewest_for_text": ["rules", "code", "gaps", "text", "slack"],
+        "send_text": ["rules", "code", "gaps", "text", "slack"],
+    },
+    "steady": {
+        "slack": ["rules", "record"], "steadier": ["rules", "record"], "upset": ["rules", "record"],
+        "shows_upset": ["rules", "record", "value"],
+    },
+    "parting": {
+        "parting_record": ["one", "other"], "fewest_parting": ["one", "other"],
+        "shows_parting": ["one", "other", "value"],
+    },
+    "heard": {
+        "is_possible": ["rules", "runs", "slack"], "fewest_for_runs": ["rules", "runs", "slack"],
+        "record_for": ["rules", "runs", "slack"], "fewest_down_at": ["rules", "runs", "slack", "lever", "tick"],
+        "rules_for": ["s", "l", "pause", "runs", "slack", "events"],
+    },
 }
 
 CLASSES = {
@@ -104,6 +123,17 @@ class LanguageTest(unittest.TestCase):
                         source = ast.parse((FOLDER / (node.module.split(".")[1] + ".py")).read_text())
                         for alias in node.names:
                             self.assertIn(alias.name, list(bound_names(source)))
+
+    def test_no_import_or_class_gets_another_meaning(self):
+        for path in FILES:
+            tree = ast.parse(path.read_text())
+            taken = [name for node in tree.body if isinstance(node, (ast.ImportFrom, ast.ClassDef))
+                     for name in bound_names(node) if isinstance(node, ast.ImportFrom) or name == node.name]
+            inside = [name for node in tree.body if isinstance(node, (ast.FunctionDef, ast.ClassDef))
+                      for name in bound_names(node) if name != node.name]
+            with self.subTest(file=path.name):
+                self.assertEqual(len(taken), len(set(taken)))
+                self.assertEqual(sorted(set(taken) & set(inside)), [])
 
     def test_no_name_of_a_builtin_gets_another_meaning(self):
         for path in FILES:
