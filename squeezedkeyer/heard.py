@@ -8,6 +8,7 @@ from squeezedkeyer.plans import Plans, links_of, option_cost, pieces_of
 from squeezedkeyer.records import MOST_EVENTS
 from squeezedkeyer.rules import BOTH_WORDS, REMEMBER_WORDS, check_rules, plain
 from squeezedkeyer.runs import check_runs, spans
+from squeezedkeyer.stretches import together
 from squeezedkeyer.ways import MOST_USEFUL, places
 
 
@@ -59,7 +60,7 @@ def rules_for(s, l, pause, runs, slack, events):
     found = []
     for remember, again, both in last_items():
         fitting = []
-        for low, high in stretches(s + pause, l + pause, slack):
+        for low, high in deaf_stretches(s + pause, l + pause, slack):
             rules = (s, l, pause, low, remember, again, both)
             if plain(rules) == rules and known_fewest(known, Plans(rules, slack), runs) <= events:
                 fitting.append((low, high))
@@ -189,7 +190,7 @@ def last_items():
     ]
 
 
-def stretches(one, other, slack):
+def deaf_stretches(one, other, slack):
     """The numbers deaf for two periods, as tuples (low, high) within which the same ways are open."""
     rooms = [2 * slack * (many + 1) for many in range(1, MOST_USEFUL + 1)]
     lows = [0, 1, one, other] + [least + 1 for least in rooms]
@@ -207,13 +208,3 @@ def known_fewest(known, plans, runs):
         fewest = fewest_heard(plans, runs)
         known[shape] = NEVER if fewest is None else fewest
     return known[shape]
-
-
-def together(found):
-    """The same numbers, with neighbouring ones together."""
-    wide = []
-    for low, high in found:
-        if wide and wide[-1][1] + 1 == low:
-            low = wide.pop()[0]
-        wide.append((low, high))
-    return wide

@@ -11,8 +11,6 @@ from squeezedkeyer.ways import many_in, places, ways_of
 
 def parting_record(one, other):
     """A record of as few events as possible that parts two rules, None for alike rules."""
-    check_rules(one)
-    check_rules(other)
     if are_alike(one, other):
         return None
     for place, kind in enumerate(LEVERS):

@@ -11,7 +11,7 @@ MOST_RUNS = 100
 
 def check_runs(rules, value):
     """Raise InvalidRuns unless a value is a list of runs for the rules."""
-    if not isinstance(value, list) or not 1 <= len(value) <= MOST_RUNS:
+    if not is_list_of_some(value):
         raise InvalidRuns(None)
     span = spans(rules)
     earliest = None
@@ -37,13 +37,28 @@ def is_turns(word, times):
     return is_one_of(word, WORDS) and is_whole_from(times, 1)
 
 
+def is_pair(value):
+    """Whether a value is an item of kinds."""
+    return isinstance(value, tuple) and len(value) == 2 and is_turns(*value)
+
+
+def is_kinds(value):
+    """Whether a value is kinds."""
+    return is_list_of_some(value) and all([is_pair(item) for item in value])
+
+
 def check_kinds(value):
     """Raise InvalidKinds unless a value is kinds."""
-    if not isinstance(value, list) or not 1 <= len(value) <= MOST_RUNS:
+    if not is_list_of_some(value):
         raise InvalidKinds(None)
     for index, item in enumerate(value):
-        if not isinstance(item, tuple) or len(item) != 2 or not is_turns(*item):
+        if not is_pair(item):
             raise InvalidKinds(index)
+
+
+def is_list_of_some(value):
+    """Whether a value is a list of as many items as runs and kinds have."""
+    return isinstance(value, list) and 1 <= len(value) <= MOST_RUNS
 
 
 def spans(rules):
@@ -55,7 +70,12 @@ def spans(rules):
 
 def many_marks(runs):
     """The number of the marks of some runs."""
-    return sum([len(word) * times for _, word, times in runs])
+    return many_kinds([(word, times) for _, word, times in runs])
+
+
+def many_kinds(pairs):
+    """The number of the marks of some kinds."""
+    return sum([len(word) * times for word, times in pairs])
 
 
 def many_begun(rules, runs, tick):

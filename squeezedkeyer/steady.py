@@ -115,7 +115,7 @@ def blocks_of(rules, record):
     places = []
     begin = low = None
     many = 0
-    for tick, parts, times, length in gone(rules, record).rows:
+    for tick, parts, _, _ in gone(rules, record).rows:
         what = parts[0][1].split(" ")[0]
         if what in ("press", "release") and begin is None:
             begin = low = tick
@@ -125,7 +125,8 @@ def blocks_of(rules, record):
             if many > 0:
                 places.append((low, tick - 1, many))
             many = 0
-            low = tick + (times - 1) * length + parts[-1][0]
+            # Behind turns that are told at once a mark begins, ahead of the next event.
+            low = tick
         if what == "idle":
             found.append((begin, places, tick))
             places = []

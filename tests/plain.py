@@ -283,3 +283,22 @@ def some_rules(chance, most):
     s, l, pause = chance.randint(1, most), chance.randint(1, most), chance.randint(1, max(1, most // 2))
     deaf = chance.choice([0, chance.randint(0, s + pause), chance.randint(0, l + pause)])
     return (s, l, pause, deaf, chance.choice(REMEMBER), chance.choice([False, True]), chance.choice(BOTH))
+
+
+def plain_kinds_of(rules, record):
+    return plain_kinds(plain_keyer(rules, record).marks)
+
+
+def how_many(kinds):
+    return sum(len(word) * times for word, times in kinds)
+
+
+def stretches_of(numbers):
+    """Some numbers as stretches (low, high), as wide as possible."""
+    found = []
+    for number in sorted(numbers):
+        if found and found[-1][1] == number - 1:
+            found[-1] = (found[-1][0], number)
+        else:
+            found.append((number, number))
+    return found

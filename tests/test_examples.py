@@ -170,6 +170,47 @@ raises Impossible
 >>> [found, ("none", False, "turn", 0, 0) in rules_for(2, 6, 2, [(0, "s", 1), (4, "l", 1)], 0, 4)]
 [[], True]
 '''],
+    29: ['''
+>>> from squeezedkeyer.windows import windows, windows_for
+>>> rules, record = (5, 20, 1, 0, "none", False, "turn"), [(0, "s", True), (3, "s", False), (14, "s", True), (15, "s", False)]
+>>> record = record + [(18, "l", True), (19, "l", False), (20, "s", True), (21, "s", False), (26, "l", True), (27, "l", False)]
+>>> [windows(rules, record, 1), windows_for(rules, record, 1, [("s", 4), ("l", 1)])]
+[[(0, 5), (12, 14)], [(6, 11)]]
+'''],
+    30: ['''
+>>> from squeezedkeyer.fits import fitting, greatest_fit, least_fit
+>>> rules, held = (2, 6, 2, 0, "press", False, "turn"), [(0, "s", True), (9, "s", False)]
+>>> [fitting(rules, "s", [(held, [("s", 3)])]), fitting(rules, "s", [(held, [("s", 1)])])]
+[[(2, 2)], [(8, None)]]
+>>> touched = [(0, "s", True), (1, "s", False), (2, "l", True), (3, "l", False)]
+>>> some = [(touched, [("s", 1), ("l", 1)])]
+>>> [fitting(rules, "deaf", some), least_fit(rules, "deaf", some), greatest_fit(rules, "deaf", some)]
+[[(0, 2)], 0, 2]
+'''],
+    32: ['''
+>>> from squeezedkeyer.texts import format_record, format_rules, format_runs, parse_record, parse_rules
+>>> [format_rules((2, 6, 2, 0, "none", False, "turn")), parse_rules("2 6 2 3 held yes l"), format_runs([(0, "sl", 2), (24, "s", 1)])]
+['2 6 2 0 none no turn', (2, 6, 2, 3, 'held', True, 'l'), '0:sl*2 24:s*1']
+>>> [format_record([(-4, "s", True), (9, "s", False)]), parse_record("0s+ 0s-"), parse_record("")]
+['-4s+ 9s-', [(0, 's', True), (0, 's', False)], []]
+''', '''
+>>> from squeezedkeyer.texts import parse_record, parse_rules
+>>> parse_record("0s+ 4l+ 3s- 9l-")
+raises InvalidSyntax(line=0, word=2)
+>>> parse_record("0s+ 4l+ 9l-")
+raises InvalidSyntax(line=0, word=3)
+>>> parse_rules("2 6 0 0 none no turn")
+raises InvalidSyntax(line=0, word=2)
+'''],
+    33: ['''
+>>> from squeezedkeyer.console import Console
+>>> console = Console()
+>>> rows = ["rules 2 6 2 0 none no turn", "press s 0", "wait 5", "runs", "next", "release s 9", "down", "would", "wait 12", "idle", "log"]
+>>> [console.execute(row) for row in rows]
+['ok', 'ok', 'ok', '0:s*2', '8', 'ok', 'none', '0:s*3', 'ok', 'yes', 'press s 0; wait 5; release s 9; wait 12']
+>>> [console.execute(row) for row in ["record 0s+ 1l+ 20s- 20l-", "kinds", "count", "undo", "idle", "next"]]
+['ok', 'sl*2', '4', 'ok', 'no', '12']
+'''],
 }
 
 
@@ -207,7 +248,7 @@ class ExamplesTest(unittest.TestCase):
 
     def test_lines_that_show_something_are_found(self):
         found = [shown for examples in EXAMPLES.values() for example in examples for _, shown in pairs(example)]
-        self.assertEqual(len([shown for shown in found if shown is not None]), 41)
+        self.assertEqual(len([shown for shown in found if shown is not None]), 51)
         for shown in found:
             if shown is not None and not shown.startswith("raises "):
                 ast.literal_eval(shown)

@@ -56,6 +56,18 @@ INTERFACE = {
         "record_for": ["rules", "runs", "slack"], "fewest_down_at": ["rules", "runs", "slack", "lever", "tick"],
         "rules_for": ["s", "l", "pause", "runs", "slack", "events"],
     },
+    "windows": {
+        "windows": ["rules", "record", "index"], "windows_for": ["rules", "record", "index", "kinds"],
+    },
+    "fits": {
+        "fitting": ["rules", "name", "cases"], "least_fit": ["rules", "name", "cases"],
+        "greatest_fit": ["rules", "name", "cases"],
+    },
+    "texts": {
+        "format_rules": ["rules"], "parse_rules": ["text"], "format_record": ["record"], "parse_record": ["text"],
+        "format_runs": ["runs"],
+    },
+    "console": {"Console": []},
 }
 
 CLASSES = {
@@ -67,6 +79,7 @@ CLASSES = {
             "log": None,
         },
     },
+    "console": {"Console": {"execute": ["self", "command"]}},
 }
 
 FROM_THE_LIBRARY = [("collections", ["deque"])]
