@@ -37,7 +37,8 @@ def can_stand(word, index):
     """Whether a word can stand at a place of rules."""
     if index < len(LEAST):
         return is_number(word) and int(word) >= LEAST[index]
-    return word in (REMEMBER_WORDS, ANSWERS, BOTH_WORDS)[index - len(LEAST)]
+    words = (REMEMBER_WORDS, ANSWERS, BOTH_WORDS)
+    return word in words[index - len(LEAST)]
 
 
 def format_record(record):
