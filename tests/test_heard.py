@@ -296,7 +296,7 @@ class RulesForTest(CallsTest):
     def test_against_all_plain_rules(self):
         chance = random.Random(58)
         sizes = []
-        for _ in range(14):
+        for _ in range(10):
             rules, record, runs, _ = some_heard(chance, chance.choice([4, 9, 14]), 5, 10 ** 9)
             for least in (0, chance.choice([1, 1, slack(rules, record)])):
                 events = len(record) + chance.choice([0, 0, -2, 2])
@@ -306,6 +306,20 @@ class RulesForTest(CallsTest):
                 sizes.append(len(found))
         self.assertGreater(len([size for size in sizes if size > 20]), 1)
         self.assertGreater(len(set(sizes)), 4)
+
+    def test_rules_with_one_short_mark(self):
+        # All that happens must happen in the long marks, several events in one place.
+        sizes = []
+        for lengths, words in [((11, 1, 1), ["sl", "slss"]), ((1, 8, 2), ["ls", "lsl"]), ((15, 1, 1), ["sl"])]:
+            for word in words:
+                runs, begin = [], 0
+                for kind in word:
+                    runs.append((begin, kind, 1))
+                    begin += lengths["sl".index(kind)] + lengths[2]
+                found = rules_for(*lengths, runs, 1, 8)
+                self.assertEqual(found, self.expected(lengths, runs, 1, 8), (lengths, word))
+                sizes.append(len(found))
+        self.assertGreater(min(sizes), 0)
 
     def test_rows(self):
         found = rules_for(2, 6, 2, [(0, "s", 1), (4, "l", 1)], 0, 4)
