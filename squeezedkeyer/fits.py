@@ -1,15 +1,14 @@
 """Which numbers of the rules fit several records."""
 
 from squeezedkeyer.checks import is_one_of
-from squeezedkeyer.errors import InvalidCases, InvalidName, TooLarge
+from squeezedkeyer.errors import InvalidCases, InvalidName
 from squeezedkeyer.records import is_record
 from squeezedkeyer.rules import check_rules
-from squeezedkeyer.runs import is_kinds, many_kinds
-from squeezedkeyer.unknown import FAR, Unknown, later
+from squeezedkeyer.runs import is_kinds
+from squeezedkeyer.unknown import FAR, Unknown, check_many, known_events, later
 
 NAMES = ("s", "l", "pause", "deaf")
 MOST_CASES = 6
-MOST_MARKS = 100
 
 
 def fitting(rules, name, cases):
@@ -38,9 +37,7 @@ def all_fitting(rules, name, cases):
     times = times_without(rules, name)
     found = [(0 if name == "deaf" else 1, FAR)]
     for record, kinds in cases:
-        events = [((0, tick), lever, is_press) for tick, lever, is_press in record]
-        text = "".join([word * many for word, many in kinds])
-        found = Unknown(rules, times, events).numbers_for(text, found)
+        found = Unknown(rules, times, known_events(record)).numbers_for(kinds, found)
     return found
 
 
@@ -51,8 +48,8 @@ def check_cases(value):
     for index, item in enumerate(value):
         if not isinstance(item, tuple) or len(item) != 2 or not is_record(item[0]) or not is_kinds(item[1]):
             raise InvalidCases(index)
-    if max([many_kinds(kinds) for _, kinds in value]) > MOST_MARKS:
-        raise TooLarge(MOST_MARKS)
+    for _, kinds in value:
+        check_many(kinds)
 
 
 def times_without(rules, name):

@@ -108,8 +108,7 @@ def joined(one, other):
 def moved(record, index, tick):
     """The record in which the event with this index has another tick."""
     check_record(record)
-    if not is_whole(index) or not 0 <= index < len(record):
-        raise InvalidNumber("the record has no event with this index")
+    check_index(record, index)
     check_tick(tick)
     if index > 0 and tick < record[index - 1][0]:
         raise InvalidTick("the tick is less than that of the event before")
@@ -117,3 +116,9 @@ def moved(record, index, tick):
         raise InvalidTick("the tick is greater than that of the event behind")
     _, lever, is_press = record[index]
     return [*record[:index], (tick, lever, is_press), *record[index + 1:]]
+
+
+def check_index(record, index):
+    """Raise InvalidNumber unless a record has an event with this index."""
+    if not is_whole(index) or not 0 <= index < len(record):
+        raise InvalidNumber("the record has no event with this index")

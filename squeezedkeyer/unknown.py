@@ -6,8 +6,11 @@ factor, and the rest. Numbers are told as stretches (low, high), both included.
 
 from squeezedkeyer.checks import LEVERS
 from squeezedkeyer.decisions import keeps_presses, kept_by_hearing, next_kind, toggled, with_lever
+from squeezedkeyer.errors import TooLarge
+from squeezedkeyer.runs import many_kinds
 from squeezedkeyer.stretches import together
 
+MOST_MARKS = 100
 # Farther than any number plays a part: stretches without an end go so far.
 FAR = 10 ** 60
 
@@ -35,8 +38,9 @@ class Unknown:
                 is_press = events[index][1] == lever and events[index][2]
                 self.presses[lever][index] = index if is_press else self.presses[lever][index + 1]
 
-    def numbers_for(self, kinds, stretches):
-        """The stretches of those numbers for which the marks have these kinds, told as a string."""
+    def numbers_for(self, wanted, stretches):
+        """The stretches of those numbers for which the marks have the wanted kinds, not too many."""
+        kinds = "".join([word * times for word, times in wanted])
         if not self.levers or self.levers[0] != kinds[0]:
             return []
         # All numbers with one begin of a mark, and one event behind it, go on together.
@@ -70,10 +74,10 @@ class Unknown:
         """What the decision of a mark brings: tuples (stretch, decision, event behind it, next kind)."""
         period, deaf = self.times[kind], self.times["deaf"]
         decision = later(begin, period)
-        can_remember = self.rules[4] != "none" or self.rules[5]
         found = []
         for whole in stretches:
-            for part, is_heard in parted(deaf, period, whole) if can_remember else [(whole, False)]:
+            # A hearing of a keyer that remembers nothing does no harm.
+            for part, is_heard in parted(deaf, period, whole):
                 heard = self.cut(later(begin, deaf), index, part) if is_heard else [(part, None)]
                 for row, first in heard:
                     for stretch, last in self.cut(decision, index, row):
@@ -116,6 +120,17 @@ class Unknown:
             else:
                 high = middle
         return low
+
+
+def check_many(kinds):
+    """Raise TooLarge for kinds of more marks than are looked for."""
+    if many_kinds(kinds) > MOST_MARKS:
+        raise TooLarge(MOST_MARKS)
+
+
+def known_events(record):
+    """The events of a record, none of which has an unknown tick."""
+    return [((0, tick), lever, is_press) for tick, lever, is_press in record]
 
 
 def worth(time, number):

@@ -1,14 +1,10 @@
 """To where one event of a record can be moved."""
 
-from squeezedkeyer.checks import is_whole
-from squeezedkeyer.errors import InvalidNumber, TooLarge
 from squeezedkeyer.going import gone, runs_in
-from squeezedkeyer.records import check_record
+from squeezedkeyer.records import check_index, check_record
 from squeezedkeyer.rules import check_rules
-from squeezedkeyer.runs import check_kinds, many_kinds, spans
-from squeezedkeyer.unknown import FAR, Unknown
-
-MOST_MARKS = 100
+from squeezedkeyer.runs import check_kinds, spans
+from squeezedkeyer.unknown import FAR, Unknown, check_many, known_events
 
 
 def windows(rules, record, index):
@@ -32,14 +28,7 @@ def check_move(rules, record, index):
     """Check the arguments that both calls have."""
     check_rules(rules)
     check_record(record)
-    if not is_whole(index) or not 0 <= index < len(record):
-        raise InvalidNumber("the record has no event with this index")
-
-
-def check_many(kinds):
-    """Raise TooLarge for kinds of more than 100 marks."""
-    if many_kinds(kinds) > MOST_MARKS:
-        raise TooLarge(MOST_MARKS)
+    check_index(record, index)
 
 
 def kinds_sent(rules, record):
@@ -53,8 +42,7 @@ def windows_of(rules, record, index, kinds):
     high = record[index + 1][0] if index + 1 < len(record) else FAR
     span = spans(rules)
     times = {"s": (0, span["s"]), "l": (0, span["l"]), "deaf": (0, rules[3])}
-    events = [((0, tick), lever, is_press) for tick, lever, is_press in record]
+    events = known_events(record)
     # The unknown number is the tick of this event.
     events[index] = ((1, 0), *events[index][1:])
-    text = "".join([word * many for word, many in kinds])
-    return Unknown(rules, times, events).numbers_for(text, [(low, high)])
+    return Unknown(rules, times, events).numbers_for(kinds, [(low, high)])
