@@ -178,12 +178,13 @@ def links_of(words, within, between):
     found = []
     for index, (word, times) in enumerate(words):
         if index > 0:
-            found.append((((words[index - 1][0][-1], word[0], *between[index - 1]),), 1))
+            step = (words[index - 1][0][-1], word[0], *between[index - 1])
+            found.append(((step,), 1))
         turn = tuple([(kind, following, *within) for kind, following in zip(word, word[1:] + word[:1])])
         found.append((turn, times - 1))
         found.extend([((step,), 1) for step in turn[:-1]])
-    found.append((((words[-1][0][-1], "", True, None),), 1))
-    return found
+    last = (words[-1][0][-1], "", True, None)
+    return [*found, ((last,), 1)]
 
 
 def pieces_of(links):

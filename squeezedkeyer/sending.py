@@ -74,11 +74,11 @@ def links_for_kinds(kinds, slack):
 def all_trades(rules, kinds):
     """The ascending tuples (events, slack), as trade returns them."""
     found = []
-    for slack in sorted(set([0] + [slack for width in widths(rules) for slack in slacks(width)])):
+    for slack in sorted(set([0] + [border for width in widths(rules) for border in slacks(width)])):
         many = fewest_for_kinds(rules, kinds, slack)
         if many is None:
             break
-        # Events of less use than this slack, with as many or more of them.
+        # As many events are worth nothing with a lesser slack.
         found = [(events, other) for events, other in found if events < many] + [(many, slack)]
     return found
 
